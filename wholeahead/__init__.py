@@ -1,0 +1,1 @@
+"""Tables that tell who is wholly ahead of whom."""
