@@ -7,6 +7,7 @@ import unittest
 
 from wholeahead.errors import BadSquare, BadTable, BadThing
 from wholeahead.tables import ahead_of, turned
+from wholeahead.telling import line, ranks, steps, stretches
 
 
 class Unfriendly:
@@ -99,6 +100,14 @@ class BadTables(Refusals):
     def test_turned(self):
         self.assert_each_refused(BadTable, [(turned, table) for table in bad_tables()])
 
+    def test_steps(self):
+        self.assert_each_refused(BadTable, [(steps, table) for table in bad_tables()])
+
+    def test_those_of_square_tables(self):
+        # Many of these have not as many rows as signs either: that it is no table is told first.
+        for telling in (stretches, ranks, line):
+            self.assert_each_refused(BadTable, [(telling, table) for table in bad_tables()])
+
     def test_ahead_of(self):
         self.assert_each_refused(BadTable, [(ahead_of, table, 0) for table in bad_tables()])
 
@@ -117,9 +126,35 @@ class BadSquares(Refusals):
         calls = [(ahead_of, table, thing) for table in NOT_SQUARE for thing in things]
         self.assert_each_refused(BadSquare, calls)
 
+    def test_those_of_square_tables(self):
+        for telling in (stretches, ranks, line):
+            self.assert_each_refused(BadSquare, [(telling, table) for table in NOT_SQUARE])
+
+    def test_tables_that_a_few_would_bar(self):
+        # With a cross, or a thing ahead of itself, they are refused all the same.
+        tables = [["x--", "-x-"], ["x-", "-x", "--"], ["-x-", "x--"], ["xx"]]
+        for telling in (stretches, ranks, line):
+            self.assert_each_refused(BadSquare, [(telling, table) for table in tables])
+
+    def test_steps_takes_tables_that_are_not_square(self):
+        for table in NOT_SQUARE:
+            told = steps(table)
+            self.assertEqual((len(told.rows), len(told.columns)), (len(table), len(table[0])))
+
     def test_turned_takes_tables_that_are_not_square(self):
         for table in NOT_SQUARE:
             self.assertEqual(len(turned(table)), len(table[0]))
+
+
+class NothingLeftBehind(Refusals):
+    def test_a_refusal_leaves_nothing_behind(self):
+        table = ["-x", "-"]
+        for telling in (steps, stretches, ranks, line):
+            self.assert_refused(BadTable, telling, table)
+            self.assertEqual(table, ["-x", "-"])
+        table[1] = "--"
+        for telling in (steps, stretches, ranks, line):
+            self.assertIs(telling(table).shows(table), True)
 
 
 class BadThings(Refusals):

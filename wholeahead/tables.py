@@ -20,11 +20,21 @@ def width(table):
     return len(table[0]) if len(table) > 0 else 0
 
 
-def is_thing(table, thing):
+def is_number(value):
     # To Python True and False are whole numbers; here they are no numbers.
-    if isinstance(thing, bool) or not isinstance(thing, int):
-        return False
-    return 0 <= thing < len(table)
+    return isinstance(value, int) and not isinstance(value, bool)
+
+
+def is_row_count(table, value):
+    return is_number(value) and 0 <= value < len(table)
+
+
+def is_column_count(table, value):
+    return is_number(value) and 0 <= value < width(table)
+
+
+def has(table, row, column):
+    return table[row][column] == "x"
 
 
 def check_table(table):
@@ -39,7 +49,7 @@ def check_square(table):
 
 
 def check_thing(table, thing):
-    if not is_thing(table, thing):
+    if not is_row_count(table, thing):
         raise BadThing("not the count of a thing of the table")
 
 
